@@ -1,0 +1,1 @@
+"""Functions told over small worlds, and the programs that tell them over all."""
