@@ -2,9 +2,9 @@
 
 from kindtells.errors import BadLead, BadTold, Misfit
 from kindtells.leads import Lead
-from kindtells.manners import demand_manner, demand_two, few_leads
+from kindtells.manners import demand_manner, demand_two, few_rows
 from kindtells.papers import Denial, Paper, fixed
-from kindtells.rows import all_rows, row_index
+from kindtells.rows import led_indices, row_at, row_index
 from kindtells.told import Told
 
 
@@ -32,12 +32,15 @@ def parts_at(begin, into, lead, row):
     return into.tells[row_index(led_row, into.things)] != lead.row[value]
 
 
-def first_parting(begin, into, lead):
-    """The first input over the world in which the lead begins at which these two part; None without one."""
-    for row in all_rows(begin.things, begin.places):
-        if parts_at(begin, into, lead, row):
-            return row
-    return None
+def first_parting(begin, into, lead_row):
+    """The first input over the world of begin at which these two told functions part from the lead with this row,
+    which leads from this world to that of into; None without one."""
+    led = [into.tells[index] for index in led_indices(lead_row, into.things, begin.places)]
+    asked = [lead_row[value] for value in begin.tells]
+    if led == asked:
+        return None
+    index = [one != other for one, other in zip(led, asked)].index(True)
+    return row_at(index, begin.things, begin.places)
 
 
 def parting_row(told, lead):
@@ -48,20 +51,25 @@ def parting_row(told, lead):
         raise BadLead("lead")
     if lead.begin != told.things or lead.into != told.things:
         raise Misfit("things")
-    return first_parting(told, told, lead)
+    return first_parting(told, told, lead.row)
 
 
-def kept(told, manner):
-    """The Kept if the told function keeps the manner; otherwise a Parting."""
+def demand_told_manner(told, manner):
+    """A told function, and a manner that can be asked over its world."""
     if type(told) is not Told:
         raise BadTold("told")
     demand_manner(manner, "manner")
     demand_two(manner, (told.things,))
+
+
+def kept(told, manner):
+    """The Kept if the told function keeps the manner; otherwise a Parting."""
+    demand_told_manner(told, manner)
     # All leads of the manner come of its few leads: who goes along with these goes along with all.
-    for lead in few_leads(manner, told.things):
-        row = first_parting(told, told, lead)
+    for lead_row in few_rows(manner, told.things):
+        row = first_parting(told, told, lead_row)
         if row is not None:
-            return Parting(lead, row)
+            return Parting(Lead(told.things, lead_row), row)
     return Kept()
 
 

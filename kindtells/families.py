@@ -4,7 +4,8 @@ from kindtells.along import Kept, Parting, first_parting
 from kindtells.checks import first_twice, is_integer
 from kindtells.errors import BadFamily, BadTold, Misfit, NoWorld, Twice
 from kindtells.leads import Lead
-from kindtells.manners import demand_manner, demand_two, few_leads, is_of, leads
+from kindtells.manners import demand_manner, demand_two, few_rows, row_is_of
+from kindtells.rows import rising_rows
 from kindtells.told import Told
 
 
@@ -38,35 +39,44 @@ class Family:
         return self.members[self.worlds.index(things)]
 
 
-def between_leads(manner, begin, into):
-    """Leads of the manner from a world to another one, of which all others come, behind or ahead of leads
-    of the greater world to itself."""
+def between_rows(manner, begin, into):
+    """The rows of leads of the manner from a world to another one, of which all others come, behind or ahead of
+    leads of the greater world to itself."""
     if manner == "order":
-        return leads(manner, begin, into)
-    row = [min(thing, into - 1) for thing in range(begin)]
+        return rising_rows(begin, into)
+    row = tuple([min(thing, into - 1) for thing in range(begin)])
     if manner == "ends":
-        row[-1] = into - 1
-    lead = Lead(into, row)
-    return (lead,) if is_of(lead, manner) else ()
+        row = row[:-1] + (into - 1,)
+    return [row] if row_is_of(row, into, manner) else []
 
 
-def enough_leads(manner, begin, into):
-    """Leads of the manner between two worlds of a family that are enough to ask."""
+def enough_rows(manner, begin, into):
+    """The rows of leads of the manner between two worlds of a family that are enough to ask."""
     if begin == into:
-        return few_leads(manner, begin)
-    return between_leads(manner, begin, into)
+        return few_rows(manner, begin)
+    return between_rows(manner, begin, into)
+
+
+def demand_family(family):
+    """A family."""
+    if type(family) is not Family:
+        raise BadFamily("family")
+
+
+def demand_family_manner(family, manner):
+    """A family, and a manner that can be asked over its worlds."""
+    demand_family(family)
+    demand_manner(manner, "manner")
+    demand_two(manner, family.worlds)
 
 
 def family_kept(family, manner):
     """The Kept if the family keeps the manner; otherwise a Parting."""
-    if type(family) is not Family:
-        raise BadFamily("family")
-    demand_manner(manner, "manner")
-    demand_two(manner, family.worlds)
+    demand_family_manner(family, manner)
     for begin in family.members:
         for into in family.members:
-            for lead in enough_leads(manner, begin.things, into.things):
-                row = first_parting(begin, into, lead)
+            for lead_row in enough_rows(manner, begin.things, into.things):
+                row = first_parting(begin, into, lead_row)
                 if row is not None:
-                    return Parting(lead, row)
+                    return Parting(Lead(into.things, lead_row), row)
     return Kept()

@@ -110,10 +110,14 @@ def candidate_rows(manner, things):
     return put_down + put_up
 
 
+def few_rows(manner, things):
+    """The rows of the few leads of the manner in a world, ascending."""
+    return sorted([row for row in candidate_rows(manner, things) if row_is_of(row, things, manner)])
+
+
 def few_leads(manner, things):
     """The tuple of the few leads of the manner in a world, each once, by their rows ascending."""
     demand_manner(manner, "manner")
     demand_world(things, "things")
     demand_two(manner, (things,))
-    rows = [row for row in candidate_rows(manner, things) if row_is_of(row, things, manner)]
-    return tuple([Lead(things, row) for row in sorted(rows)])
+    return tuple([Lead(things, row) for row in few_rows(manner, things)])

@@ -2,7 +2,9 @@
 
 import itertools
 import random
+import time
 import unittest
+import unittest.mock
 
 from kindtells.along import Kept, Parting, kept, keeps, parting_row
 from kindtells.check_along import shows_kept
@@ -210,6 +212,44 @@ class Papers(Case):
         for lead in leads("blind", 3, 3):
             for paper in bent(told, lead):
                 self.assertIs(shows_kept(told, "blind", paper), False)
+
+
+class ManyPapers(Case):
+    """Readers check papers by the ten thousand: of a Parting its own lead and its own input alone are asked."""
+
+    tells = (
+        (3, 2, (0, 0, 0, 0, 1, 1, 0, 1, 2)), (3, 2, (0, 1, 2) * 3), (3, 2, (0, 2, 1, 2, 1, 0, 1, 0, 2)), (3, 1, (1, 2, 0)),
+        (2, 2, (0, 1, 1, 0)), (2, 3, (0, 0, 0, 1, 0, 1, 1, 1)))
+
+    def hold_all_papers(self, told):
+        for manner in MANNERS:
+            for lead in leads("blind", told.things, told.things):
+                plain = plain_parting(told, lead) if is_of(lead, manner) else []
+                for paper in bent(told, lead):
+                    self.assertIs(shows_kept(told, manner, paper), paper.row in plain)
+
+    def test_without_finding_out_what_is_kept(self):
+        with unittest.mock.patch("kindtells.check_along.keeps", side_effect=AssertionError("not asked of a Parting")):
+            for things, places, tells in self.tells:
+                self.hold_all_papers(Told(things, places, tells))
+            for value in (None, 1, "kept", Paper("kept"), Kept, BentParting(Lead(2, [1, 0]), (0, 1))):
+                self.assertIs(shows_kept(Told(2, 1, [0, 1]), "blind", value), False)
+            self.raises(BadTold("told"), shows_kept, None, "?", Parting(idle(2), (0,)))
+            self.raises(BadManner("manner"), shows_kept, Told(1, 1, [0]), "?", Parting(idle(2), (0,)))
+            self.raises(Misfit("things"), shows_kept, Told(1, 1, [0]), "two", Parting(idle(1), (0,)))
+
+    def test_great_functions_in_a_short_time(self):
+        """As many papers take a part of a second; with what is kept found out for each they would take minutes."""
+        told = Told(4, 4, [row[1] for row in inputs(4, 4)])
+        bars = Told(4, 4, [(row[1] + row[2]) % 4 for row in inputs(4, 4)])
+        papers = [paper for lead in leads("blind", 4, 4)[::4] for paper in bent(told, lead)[::16]]
+        start = time.perf_counter()
+        for manner in MANNERS:
+            for paper in papers:
+                self.assertIs(shows_kept(told, manner, paper), False)
+        found = sum(shows_kept(bars, manner, paper) for manner in MANNERS for paper in papers)
+        self.assertLess(time.perf_counter() - start, 10)
+        self.assertGreater(found, 0)
 
 
 if __name__ == "__main__":

@@ -6,7 +6,7 @@ import unittest
 
 from kindtells.along import Kept, Parting
 from kindtells.errors import BadFamily, BadManner, BadTold, Misfit, NoWorld, Twice
-from kindtells.families import Family, enough_leads, family_kept
+from kindtells.families import Family, enough_rows, family_kept
 from kindtells.leads import Lead
 from kindtells.manners import MANNERS, is_of, leads
 from kindtells.told import Told, inputs
@@ -88,12 +88,12 @@ class Enough(Case):
         for manner, begin, into in itertools.product(MANNERS, (1, 2, 3, 4, 5), (1, 2, 3, 4, 5)):
             if begin == into or (manner == "two" and 1 in (begin, into)):
                 continue
-            enough = [lead for lead in enough_leads(manner, begin, into) if is_of(lead, manner)]
-            self.assertEqual([[lead.begin, lead.into] for lead in enough], [[begin, into]] * len(enough))
-            rows = {lead.row for lead in enough}
+            enough = enough_rows(manner, begin, into)
+            self.assertEqual([len(row) for row in enough], [begin] * len(enough))
+            rows = set(enough)
             for own in leads(manner, max(begin, into), max(begin, into)):
-                rows |= {tuple(own.row[thing] for thing in lead.row) for lead in enough if begin < into}
-                rows |= {tuple(lead.row[thing] for thing in own.row) for lead in enough if begin > into}
+                rows |= {tuple(own.row[thing] for thing in row) for row in enough if begin < into}
+                rows |= {tuple(row[thing] for thing in own.row) for row in enough if begin > into}
             self.assertEqual(rows, {lead.row for lead in leads(manner, begin, into)})
 
 

@@ -16,7 +16,16 @@ METHODS = set("""
     __init__ __eq__ __repr__ __str__ __len__ __bool__""".split())
 BARRED = (
     ast.AsyncFor, ast.AsyncFunctionDef, ast.AsyncWith, ast.Await, ast.Global, ast.GeneratorExp, ast.Div, ast.Yield,
-    ast.YieldFrom, ast.Import, ast.Pow, ast.SetComp)
+    ast.YieldFrom, ast.Import, ast.Pow)
+LIBRARY = {"itertools": {"combinations"}}
+# Methods of strings, lists and dicts that the subset has.
+OF_VALUES = set("""
+    append clear copy count endswith extend find get index insert isalnum isalpha isdigit islower isspace isupper items
+    join keys ljust lower lstrip partition pop remove replace reverse rfind rjust rpartition rsplit rstrip setdefault
+    split splitlines startswith strip update upper values zfill bit_length add discard""".split())
+# What goes over things one by one on the spot, and what must be gone over so.
+ITERATING = {"list", "tuple", "dict", "sorted", "sum", "any", "all", "enumerate", "zip", "min", "max", "combinations"}
+ITERATED = {"zip", "enumerate", "reversed", "range", "combinations"}
 
 
 def files():
@@ -76,7 +85,9 @@ class Form(unittest.TestCase):
         for name, tree in trees():
             defined = {path.stem: path for path in files()}
             for node in ast.walk(tree):
-                if isinstance(node, ast.ImportFrom):
+                if isinstance(node, ast.ImportFrom) and node.module in LIBRARY:
+                    self.assertTrue({alias.name for alias in node.names} <= LIBRARY[node.module])
+                elif isinstance(node, ast.ImportFrom):
                     package, _, stem = node.module.partition(".")
                     self.assertEqual([package, node.level], ["kindtells", 0])
                     here = ast.parse(defined[stem].read_text()).body
@@ -84,11 +95,69 @@ class Form(unittest.TestCase):
                     own |= {target.id for part in here if isinstance(part, ast.Assign) for target in part.targets}
                     self.assertTrue(own >= {alias.name for alias in node.names})
 
+    def test_no_two_files_import_from_each_other(self):
+        needs = {}
+        for name, tree in trees():
+            modules = [node.module for node in tree.body if isinstance(node, ast.ImportFrom)]
+            needs[name[:-3]] = {module[len("kindtells."):] for module in modules if module not in LIBRARY}
+        while needs:
+            free = {name for name, others in needs.items() if not others & set(needs)}
+            self.assertTrue(free, needs)
+            needs = {name: others for name, others in needs.items() if name not in free}
+
+    def test_each_import_is_used_and_no_other_name_is_like_it(self):
+        for name, tree in trees():
+            imported = {alias.name for node in tree.body if isinstance(node, ast.ImportFrom) for alias in node.names}
+            classes = {node.name for node in tree.body if isinstance(node, ast.ClassDef)}
+            read, bound = set(), set()
+            for node in ast.walk(tree):
+                if isinstance(node, ast.Name):
+                    (read if isinstance(node.ctx, ast.Load) else bound).add(node.id)
+                if isinstance(node, ast.arg):
+                    bound.add(node.arg)
+            self.assertEqual(imported - read, set(), name)
+            self.assertEqual((imported | classes) & bound, set(), name)
+
+    def test_attributes_and_methods(self):
+        methods = {node.name for _, node in nodes() if isinstance(node, ast.FunctionDef)}
+        assigned = {
+            node.attr for _, node in nodes() if isinstance(node, ast.Attribute) and isinstance(node.ctx, ast.Store)}
+        for name, node in nodes():
+            if isinstance(node, ast.Call) and isinstance(node.func, ast.Attribute):
+                self.assertIn(node.func.attr, OF_VALUES | methods, name)
+                if node.func.attr in OF_VALUES:
+                    self.assertEqual(node.keywords, [])
+            elif isinstance(node, ast.Attribute) and isinstance(node.ctx, ast.Load):
+                self.assertIn(node.attr, assigned | methods | OF_VALUES, name)
+
+    def test_sets_and_iterators_stand_where_they_are_used_up(self):
+        for name, tree in trees():
+            above = {child: node for node in ast.walk(tree) for child in ast.iter_child_nodes(node)}
+            for node in ast.walk(tree):
+                called = node.func.id if isinstance(node, ast.Call) and isinstance(node.func, ast.Name) else ""
+                outer = above.get(node)
+                by = outer.func.id if isinstance(outer, ast.Call) and isinstance(outer.func, ast.Name) else ""
+                if isinstance(node, (ast.SetComp, ast.Set)) or called == "set":
+                    stored = isinstance(outer, ast.Assign) and len(outer.targets) == 1
+                    self.assertTrue(by in ("sorted", "len") or stored, f"{name}:{node.lineno}")
+                if called in ITERATED:
+                    looped = isinstance(outer, (ast.For, ast.comprehension)) and outer.iter is node
+                    looped = looped or (called == "range" and isinstance(outer, ast.Assign))
+                    self.assertTrue(looped or (by in ITERATING and outer.args[0] is node), f"{name}:{node.lineno}")
+
+    def test_builtins_take_few_keywords(self):
+        may = {"sorted": {"key", "reverse"}, "min": {"key", "default"}, "max": {"key", "default"}}
+        for name, node in nodes():
+            if isinstance(node, ast.Call) and isinstance(node.func, ast.Name) and node.func.id in ALLOWED:
+                self.assertTrue({word.arg for word in node.keywords} <= may.get(node.func.id, set()), name)
+
     def test_module_level(self):
         for name, tree in trees():
             for at, node in enumerate(tree.body):
                 plain = isinstance(node, (ast.ImportFrom, ast.FunctionDef, ast.ClassDef, ast.Assign))
                 self.assertTrue(plain or (at == 0 and ast.get_docstring(tree)), ast.unparse(node))
+                if isinstance(node, ast.Assign):
+                    ast.literal_eval(node.value)
 
 
 if __name__ == "__main__":
