@@ -56,3 +56,9 @@ def demand_unlike_places(values, places, part):
     twice = first_twice(values)
     if twice is not None:
         raise Twice(twice)
+
+
+def demand_row(row):
+    """A list of as many integers as a function can have places, any integers."""
+    if not are_numbers(row) or not 1 <= len(row) <= MOST_PLACES:
+        raise BadNumber("row")

@@ -57,7 +57,8 @@ class Place(Worker):
 
     def over(self, things):
         """The Told of all values over a world of so many things."""
-        return told_over(self, things)
+        rows = inputs(things, self.places)
+        return Told(things, self.places, [row[self.place] for row in rows])
 
 
 class Thing(Worker):

@@ -9,19 +9,23 @@ from kindtells import errors
 
 HERE = pathlib.Path(__file__).parent
 MODULES = (
-    "errors", "checks", "papers", "leads", "manners", "told", "along", "check_along", "families", "workers")
+    "errors", "checks", "papers", "leads", "manners", "told", "along", "check_along", "families", "workers", "places",
+    "form_lists", "forms", "patterns", "blocks", "rankings", "ranks", "filling", "check_families", "ladder")
 
 
 def examples(text):
-    """Pairs of what is asked and what it must tell, which is empty behind an assignment."""
+    """Of each example its module, what is asked and what it must tell, which is empty behind an assignment."""
     found = []
+    name = ""
     for line in text.splitlines():
         if line.startswith(">>> "):
-            found.append((line[4:], ""))
-        elif line and not line.startswith("## "):
-            asked, told = found.pop()
+            found.append((name, line[4:], ""))
+        elif line.startswith("## "):
+            name = line[len("## kindtells/"):-len(".py")]
+        elif line:
+            name, asked, told = found.pop()
             assert told == "", line
-            found.append((asked, line))
+            found.append((name, asked, line))
     return found
 
 
@@ -36,8 +40,13 @@ class Examples(unittest.TestCase):
     def test_examples(self):
         space = names()
         found = examples((HERE / "examples.txt").read_text())
-        self.assertEqual(len(found), 37)
-        for asked, told in found:
+        self.assertEqual(len(found), 92)
+        imported = ""
+        for name, asked, told in found:
+            if name != imported:
+                # An example before may have given one of these names to something else.
+                space.update(vars(importlib.import_module("kindtells." + name)))
+                imported = name
             with self.subTest(asked):
                 self.hold(asked, told, space)
 

@@ -17,6 +17,20 @@ FUNCTIONS = {
     "along": {"parting_row": ["told", "lead"], "keeps": ["told", "manner"], "kept": ["told", "manner"]},
     "check_along": {"shows_kept": ["told", "manner", "value"]},
     "families": {"family_kept": ["family", "manner"]},
+    "places": {"all_known": ["places", "manner"], "known_of": ["told", "manner"], "is_turned": ["told"]},
+    "form_lists": {"least_lots": ["lots"]},
+    "forms": {
+        "greatest_of": ["one", "other"], "least_of": ["one", "other"], "put": ["form", "forms"],
+        "all_forms": ["places", "manner"], "form_of": ["told", "manner"], "bits_of": ["form"],
+        "form_by_bits": ["places", "bits"]},
+    "patterns": {"pattern_of": ["row"], "all_patterns": ["places"]},
+    "blocks": {"blocks_of": ["told"], "left_over": ["told"], "put_blocks": ["blocks", "others"]},
+    "rankings": {"ranking_of": ["row"], "all_rankings": ["places"]},
+    "ranks": {"ranks_of": ["family"], "fits": ["ranks"], "form_of_ranks": ["ranks"]},
+    "filling": {"filled": ["family", "manner", "things"]},
+    "check_families": {
+        "shows_family_kept": ["family", "manner", "value"], "shows_filled": ["family", "manner", "things", "value"]},
+    "ladder": {"is_above": ["manner", "other", "things"], "kept_manners": ["told"], "ladder": ["told"]},
 }
 CLASSES = {
     "papers": {
@@ -34,6 +48,13 @@ CLASSES = {
         "Worker": (None, {"__eq__": ["other"], "at": ["row", "things"], "over": ["things"]}),
         "Place": (["places", "place"], {"__eq__": ["other"], "at": ["row", "things"], "over": ["things"]}),
         "Thing": (["places", "thing"], {"__eq__": ["other"], "at": ["row", "things"], "over": ["things"]})},
+    "forms": {
+        "Form": (["places", "lots"], {
+            "__eq__": ["other"], "at": ["row", "things"], "over": ["things"], "is_of": ["manner"], "turned": []})},
+    "blocks": {"Blocks": (["places", "chosen"], {"__eq__": ["other"], "at": ["row", "things"], "over": ["things"]})},
+    "ranks": {"Ranks": (["places", "chosen"], {"__eq__": ["other"], "at": ["row", "things"], "over": ["things"]})},
+    "filling": {"Filled": (["told"], {}), "Many": (["one", "other"], {}), "NoFill": (["row"], {})},
+    "ladder": {"Ladder": (["manners", "partings"], {})},
 }
 
 
