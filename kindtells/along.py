@@ -1,11 +1,11 @@
 """With which leads told functions go along, and which manners they keep."""
 
-from kindtells.errors import BadLead, BadTold, Misfit
+from kindtells.errors import BadLead, Misfit
 from kindtells.leads import Lead
 from kindtells.manners import demand_manner, demand_two, few_rows
 from kindtells.papers import Denial, Paper, fixed
 from kindtells.rows import led_indices, row_at, row_index
-from kindtells.told import Told
+from kindtells.told import demand_told
 
 
 class Kept(Paper):
@@ -45,8 +45,7 @@ def first_parting(begin, into, lead_row):
 
 def parting_row(told, lead):
     """The first input at which the told function parts from the lead; None if it goes along."""
-    if type(told) is not Told:
-        raise BadTold("told")
+    demand_told(told)
     if type(lead) is not Lead:
         raise BadLead("lead")
     if lead.begin != told.things or lead.into != told.things:
@@ -56,8 +55,7 @@ def parting_row(told, lead):
 
 def demand_told_manner(told, manner):
     """A told function, and a manner that can be asked over its world."""
-    if type(told) is not Told:
-        raise BadTold("told")
+    demand_told(told)
     demand_manner(manner, "manner")
     demand_two(manner, (told.things,))
 

@@ -52,3 +52,17 @@ def bits_are_of(bits, manner):
     if manner == "rank":
         return bits[0] == 0 and bits[-1] == 1
     return bits[0] == 0 and bits[-1] == 1 and bits == turned_bits(bits)
+
+
+def inputs_by_steps(things, places):
+    """For each input over a world, ascending: for each thing but 0 the index of the input over two things that has 1
+    where this thing or a greater one stands."""
+    return [
+        [row_index([1 if thing > lower else 0 for thing in row], 2) for lower in range(things - 1)]
+        for row in all_rows(things, places)]
+
+
+def values_by_bits(bits, steps):
+    """The values of the form with these bits at all inputs over a world, for which inputs_by_steps tells the steps."""
+    # The value is a thing, or a greater one, just if the bit for this thing is 1.
+    return tuple([sum([bits[index] for index in indices]) for indices in steps])

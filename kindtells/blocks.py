@@ -2,9 +2,9 @@
 
 from kindtells.along import kept
 from kindtells.choices import are_choices, chosen_places, told_choices
-from kindtells.errors import BadNumber, BadTold, BadWorker, Impossible, Misfit
+from kindtells.errors import BadNumber, BadWorker, Impossible, Misfit
 from kindtells.patterns import all_patterns, block_numbers
-from kindtells.told import Told, inputs
+from kindtells.told import Told, demand_told, inputs
 from kindtells.workers import Worker, demand_input
 
 
@@ -38,20 +38,24 @@ def block_thing(blocks, row):
     return row[blocks.told_places[block_numbers(row)]]
 
 
-def blocks_of(told):
-    """The Blocks that tells what the told function tells over its world; None without one."""
-    if type(told) is not Told:
-        raise BadTold("told")
-    choices = told_choices((told,), block_numbers)
+def blocks_of_all(members):
+    """The Blocks that tells what each of these told functions tells over its world; None without one."""
+    choices = told_choices(members, block_numbers)
     if choices is None:
         return None
-    return Blocks(told.places, [choices.get(pattern, 0) for pattern in all_patterns(told.places)])
+    places = members[0].places
+    return Blocks(places, [choices.get(pattern, 0) for pattern in all_patterns(places)])
+
+
+def blocks_of(told):
+    """The Blocks that tells what the told function tells over its world; None without one."""
+    demand_told(told)
+    return blocks_of_all((told,))
 
 
 def left_over(told):
     """The tuple of the patterns at which a told function that keeps alike tells the thing left over."""
-    if type(told) is not Told:
-        raise BadTold("told")
+    demand_told(told)
     paper = kept(told, "alike")
     if not paper:
         raise Impossible(paper)

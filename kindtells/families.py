@@ -6,19 +6,14 @@ from kindtells.errors import BadFamily, BadTold, Misfit, NoWorld, Twice
 from kindtells.leads import Lead
 from kindtells.manners import demand_manner, demand_two, few_rows, row_is_of
 from kindtells.rows import rising_rows
-from kindtells.told import Told
-
-
-def are_members(value):
-    """Whether it is a list of one Told or more."""
-    return isinstance(value, (list, tuple)) and len(value) > 0 and all([type(told) is Told for told in value])
+from kindtells.told import are_tolds
 
 
 class Family:
     """Told functions of as many places, one over each of some unlike worlds."""
 
     def __init__(self, members):
-        if not are_members(members):
+        if not are_tolds(members, None):
             raise BadTold("members")
         twice = first_twice([told.things for told in members])
         if twice is not None:

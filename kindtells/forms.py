@@ -3,11 +3,11 @@
 from kindtells.bits import all_bits, bits_are_of, bits_fall, lots_by_bits, turned_bits
 from kindtells.checks import first_twice, is_within
 from kindtells.demands import demand_many_numbers, demand_many_places
-from kindtells.errors import BadLot, BadManner, BadNumber, BadTold, BadWorker, Misfit, Twice
+from kindtells.errors import BadLot, BadManner, BadNumber, BadWorker, Misfit, Twice
 from kindtells.form_lists import are_lots, least_lots
 from kindtells.papers import fixed
 from kindtells.rows import all_rows, many_rows, row_index
-from kindtells.told import Told, inputs
+from kindtells.told import Told, demand_told, inputs
 from kindtells.workers import Worker, demand_input
 
 FORM_MANNERS = ("rank", "either", "least", "ends")
@@ -141,8 +141,7 @@ def all_forms(places, manner):
 
 def form_of(told, manner):
     """The form of this manner that tells what the told function tells over its world; None without one."""
-    if type(told) is not Told:
-        raise BadTold("told")
+    demand_told(told)
     demand_form_manner(manner)
     if told.things == 1:
         return Form(told.places, ((0,),))

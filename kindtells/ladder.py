@@ -2,10 +2,10 @@
 
 from kindtells.along import kept
 from kindtells.demands import demand_world
-from kindtells.errors import BadManner, BadTold
+from kindtells.errors import BadManner
 from kindtells.manners import demand_two
 from kindtells.papers import Paper, fixed
-from kindtells.told import Told
+from kindtells.told import demand_told
 
 # For each of the eight manners, in the order of MANNERS, those that it is above: in worlds of three things or more.
 BELOW = {
@@ -65,8 +65,7 @@ def is_above(manner, other, things):
 
 def ladder_papers(told):
     """For each manner that is asked over the world of a told function, in their order, what kept tells of it."""
-    if type(told) is not Told:
-        raise BadTold("told")
+    demand_told(told)
     return {manner: kept(told, manner) for manner in BELOW if manner != "two" or told.things > 1}
 
 
@@ -75,10 +74,14 @@ def kept_manners(told):
     return tuple([manner for manner, paper in ladder_papers(told).items() if paper])
 
 
+def topmost_of(papers, things):
+    """The list of those manners that have a true paper, and that no other such one is above."""
+    kept_ones = [manner for manner, paper in papers.items() if paper]
+    below = [other for manner in kept_ones for other in manners_below(manner, things)]
+    return [manner for manner in kept_ones if manner not in below]
+
+
 def ladder(told):
     """The Ladder of a told function."""
     papers = ladder_papers(told)
-    kept_ones = [manner for manner, paper in papers.items() if paper]
-    below = [other for manner in kept_ones for other in manners_below(manner, told.things)]
-    topmost = [manner for manner in kept_ones if manner not in below]
-    return Ladder(topmost, [paper for paper in papers.values() if not paper])
+    return Ladder(topmost_of(papers, told.things), [paper for paper in papers.values() if not paper])

@@ -1,9 +1,9 @@
 """Places and known things: the workers of blind, one and two, and which of them tells a told function."""
 
 from kindtells.demands import demand_many_places
-from kindtells.errors import BadManner, BadTold, Misfit
+from kindtells.errors import BadManner, Misfit
 from kindtells.manners import demand_two
-from kindtells.told import Told
+from kindtells.told import demand_told
 from kindtells.workers import Place, Thing
 
 # How many things the workers of each manner know.
@@ -26,8 +26,7 @@ def all_known(places, manner):
 
 def known_of(told, manner):
     """The first worker of this manner that tells just this function over its world; None without one."""
-    if type(told) is not Told:
-        raise BadTold("told")
+    demand_told(told)
     demand_known_manner(manner)
     demand_two(manner, (told.things,))
     # Over one thing, where no Thing 1 is, Place 0 is found ahead of all Things.
@@ -39,8 +38,7 @@ def known_of(told, manner):
 
 def is_turned(told):
     """Whether a told function over two things tells x at x .. x, and the other thing where all are exchanged."""
-    if type(told) is not Told:
-        raise BadTold("told")
+    demand_told(told)
     if told.things != 2:
         raise Misfit("things")
     # With all things exchanged the inputs stand the other way round.

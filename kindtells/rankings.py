@@ -10,6 +10,11 @@ def rank_numbers(row):
     return tuple([unlike.index(thing) for thing in row])
 
 
+def gapless_rows(many):
+    """All rows of so many numbers that are 0, 1 and so on without a gap; ascending."""
+    return [row for row in all_rows(many, many) if len(set(row)) == max(row, default=-1) + 1]
+
+
 def ranking_of(row):
     """The ranking of a row of integers."""
     demand_row(row)
@@ -19,5 +24,4 @@ def ranking_of(row):
 def all_rankings(places):
     """The tuple of all rankings of so many places, ascending."""
     demand_many_places(places)
-    # A row is a ranking if its numbers are without a gap.
-    return tuple([row for row in all_rows(places, places) if len(set(row)) == max(row) + 1])
+    return tuple(gapless_rows(places))

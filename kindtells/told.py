@@ -1,9 +1,10 @@
 """Told functions: all values of a function over one world."""
 
+from kindtells.checks import is_within
 from kindtells.demands import (
     MOST_PLACES, MOST_THINGS, demand_many_numbers, demand_many_places, demand_things, demand_unlike_places,
     demand_world)
-from kindtells.errors import Misfit, TooMany
+from kindtells.errors import BadTold, Misfit, TooMany
 from kindtells.rows import all_rows, many_rows, row_index
 from kindtells.texts import Items, spaced
 
@@ -75,3 +76,16 @@ class Told:
         stands_at = [order.index(place) for place in range(self.places)]
         rows = all_rows(self.things, self.places)
         return Told(self.things, self.places, [self.at([row[place] for place in stands_at]) for row in rows])
+
+
+def demand_told(told):
+    """A told function."""
+    if type(told) is not Told:
+        raise BadTold("told")
+
+
+def are_tolds(value, most):
+    """Whether it is a list of one told function to so many; None is no bound."""
+    if not isinstance(value, (list, tuple)) or not is_within(len(value), 1, most):
+        return False
+    return all([type(told) is Told for told in value])

@@ -10,7 +10,9 @@ from kindtells import errors
 HERE = pathlib.Path(__file__).parent
 MODULES = (
     "errors", "checks", "papers", "leads", "manners", "told", "along", "check_along", "families", "workers", "places",
-    "form_lists", "forms", "patterns", "blocks", "rankings", "ranks", "filling", "check_families", "ladder")
+    "form_lists", "forms", "patterns", "blocks", "rankings", "ranks", "filling", "check_families", "ladder",
+    "check_ladder", "kinds", "closed", "agreed", "check_agreed", "merged", "made", "check_made", "programs",
+    "check_programs")
 
 
 def examples(text):
@@ -40,7 +42,7 @@ class Examples(unittest.TestCase):
     def test_examples(self):
         space = names()
         found = examples((HERE / "examples.txt").read_text())
-        self.assertEqual(len(found), 92)
+        self.assertEqual(len(found), 141)
         imported = ""
         for name, asked, told in found:
             if name != imported:

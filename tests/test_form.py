@@ -17,15 +17,15 @@ METHODS = set("""
 BARRED = (
     ast.AsyncFor, ast.AsyncFunctionDef, ast.AsyncWith, ast.Await, ast.Global, ast.GeneratorExp, ast.Div, ast.Yield,
     ast.YieldFrom, ast.Import, ast.Pow)
-LIBRARY = {"itertools": {"combinations"}}
+LIBRARY = {"itertools": {"combinations", "permutations"}}
 # Methods of strings, lists and dicts that the subset has.
 OF_VALUES = set("""
     append clear copy count endswith extend find get index insert isalnum isalpha isdigit islower isspace isupper items
     join keys ljust lower lstrip partition pop remove replace reverse rfind rjust rpartition rsplit rstrip setdefault
     split splitlines startswith strip update upper values zfill bit_length add discard""".split())
 # What goes over things one by one on the spot, and what must be gone over so.
-ITERATING = {"list", "tuple", "dict", "sorted", "sum", "any", "all", "enumerate", "zip", "min", "max", "combinations"}
-ITERATED = {"zip", "enumerate", "reversed", "range", "combinations"}
+ITERATING = {"list", "tuple", "dict", "sorted", "sum", "any", "all", "enumerate", "zip", "min", "max", "combinations", "permutations"}
+ITERATED = {"zip", "enumerate", "reversed", "range", "combinations", "permutations"}
 
 
 def files():

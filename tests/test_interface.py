@@ -31,6 +31,22 @@ FUNCTIONS = {
     "check_families": {
         "shows_family_kept": ["family", "manner", "value"], "shows_filled": ["family", "manner", "things", "value"]},
     "ladder": {"is_above": ["manner", "other", "things"], "kept_manners": ["told"], "ladder": ["told"]},
+    "check_ladder": {"shows_ladder": ["told", "value"]},
+    "kinds": {
+        "kind_values": ["kind", "things"], "kind_keeps": ["told", "manner"], "kind_worker_of": ["told", "manner"]},
+    "closed": {"closed": ["leads"]},
+    "agreed": {
+        "functions_along": ["leads", "places"], "many_along": ["leads", "places"], "leads_along": ["functions"],
+        "manner_of": ["leads"], "compared_manners": ["one", "other"]},
+    "check_agreed": {"shows_compared": ["one", "other", "value"]},
+    "merged": {"merged": ["told", "one", "other"], "sort_of": ["told"]},
+    "made": {"makes": ["told"], "made_of": ["functions", "wished"]},
+    "check_made": {"shows_makes": ["told", "value"], "shows_made": ["functions", "wished", "value"]},
+    "programs": {
+        "what": ["told", "manner"], "family_what": ["family", "manner"],
+        "many_kept": ["manner", "things", "places"], "kept_all": ["manner", "things", "places"]},
+    "check_programs": {
+        "shows_what": ["told", "manner", "value"], "shows_family_what": ["family", "manner", "value"]},
 }
 CLASSES = {
     "papers": {
@@ -55,6 +71,15 @@ CLASSES = {
     "ranks": {"Ranks": (["places", "chosen"], {"__eq__": ["other"], "at": ["row", "things"], "over": ["things"]})},
     "filling": {"Filled": (["told"], {}), "Many": (["one", "other"], {}), "NoFill": (["row"], {})},
     "ladder": {"Ladder": (["manners", "partings"], {})},
+    "kinds": {
+        "Kind": (["shapes"], {"__eq__": ["other"]}),
+        "KindTold": (["things", "kind", "into", "tells"], {"__eq__": ["other"], "at": ["value"]}),
+        "KindWorker": (["manner", "kind", "into", "rows"], {"__eq__": ["other"], "over": ["things"]})},
+    "agreed": {"Same": ([], {}), "Unlike": (["told"], {})},
+    "made": {
+        "Makes": (["name", "steps", "told"], {}), "IsPlace": (["place"], {}), "Made": (["steps"], {}),
+        "Lot": (["functions"], {})},
+    "programs": {"Program": (["worker"], {}), "Alone": ([], {})},
 }
 
 
